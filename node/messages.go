@@ -5,6 +5,7 @@ import (
 
 	"rookery/api"
 	"rookery/dotset"
+	"rookery/right"
 )
 
 // handler takes a message to the node, from another one.
@@ -30,7 +31,7 @@ func handlers() [api.MsgTook + 1]handler {
 // store takes a write that the node is preferred for.
 func (n *Node) store(m api.Msg) (api.Acts, api.Errno) {
 	w := m.Writes[0]
-	if !n.isRight(w) || !n.minds(w.Key) {
+	if !right.Write(n.config, w) || !n.minds(w.Key) {
 		return api.Acts{}, api.ErrMsg
 	}
 	if _, err := n.Merge(w); err != api.OK {
@@ -50,8 +51,8 @@ func (n *Node) tell(m api.Msg) (api.Acts, api.Errno) {
 
 // hear takes an answer for one of the node's calls. Of what its kind does not name it has nothing, which is never wrong.
 func (n *Node) hear(m api.Msg) (api.Acts, api.Errno) {
-	wrong := func(w api.Write) bool { return !n.isRight(w) }
-	if m.Owner >= n.config.Nodes || !n.fits(m.Set) || slices.ContainsFunc(m.Writes, wrong) {
+	wrong := func(w api.Write) bool { return !right.Write(n.config, w) }
+	if m.Owner >= n.config.Nodes || !right.Set(n.config, m.Set) || slices.ContainsFunc(m.Writes, wrong) {
 		return api.Acts{}, api.ErrMsg
 	}
 	return n.perform(n.coord.On(m))

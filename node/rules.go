@@ -1,11 +1,10 @@
 package node
 
 import (
-	"math/bits"
 	"slices"
 
 	"rookery/api"
-	"rookery/dotset"
+	"rookery/right"
 )
 
 // refusal tells why a call can't begin, whatever is stored.
@@ -14,7 +13,7 @@ func (n *Node) refusal(call int, key string, dead bool, value []byte, token []ap
 	switch {
 	case n.isDown():
 		return api.ErrDown
-	case len(key) < 1 || len(key) > api.MaxKey:
+	case !right.Key(key):
 		return api.ErrKey
 	case len(value) > api.MaxValue:
 		return api.ErrLong
@@ -24,7 +23,7 @@ func (n *Node) refusal(call int, key string, dead bool, value []byte, token []ap
 		return api.ErrMine
 	case call < 1 || call > api.MaxCalls || quorum < 1 || quorum > n.config.Prefer:
 		return api.ErrArg
-	case !n.fits(token):
+	case !right.Set(n.config, token):
 		return api.ErrSet
 	case used:
 		return api.ErrCall
@@ -44,19 +43,4 @@ func (n *Node) nodesOf(key string) (first, rest []int) {
 func (n *Node) minds(key string) bool {
 	first, _ := n.nodesOf(key)
 	return slices.Contains(first, n.me)
-}
-
-// fits tells whether a list is a set of dots of this config.
-func (n *Node) fits(s []api.Span) bool {
-	if dotset.Check(s, n.config.Gap) != api.OK {
-		return false
-	}
-	return !slices.ContainsFunc(s, func(x api.Span) bool {
-		return x.Node >= n.config.Nodes || x.Base+bits.Len64(x.Bits) > n.config.Count
-	})
-}
-
-// isRight tells whether a write of a message is right: what does not hang on the config has been asked for where the message was read.
-func (n *Node) isRight(w api.Write) bool {
-	return w.Dot.Node < n.config.Nodes && w.Dot.Count <= n.config.Count && n.fits(w.Ctx)
 }

@@ -2,11 +2,10 @@ package repair
 
 import (
 	"cmp"
-	"math/bits"
 	"slices"
 
 	"rookery/api"
-	"rookery/dotset"
+	"rookery/right"
 )
 
 // pair is a range that prefers the node, and another node that it prefers; mark tells when it had its turn.
@@ -46,22 +45,12 @@ func (r *Repair) isPair(rng, peer int) bool {
 	return peer != r.me && r.prefers(rng, r.me) && r.prefers(rng, peer)
 }
 
-// isSet tells whether a list is a set of dots that a node of this config may know.
-func (r *Repair) isSet(s []api.Span) bool {
-	if dotset.Check(s, r.config.Gap) != api.OK {
-		return false
-	}
-	return !slices.ContainsFunc(s, func(x api.Span) bool {
-		return x.Node >= r.config.Nodes || x.Base+bits.Len64(x.Bits) > r.config.Count
-	})
-}
-
 // refusal tells what speaks against a message ahead of all else.
 func (r *Repair) refusal(m api.Msg, kind int) api.Errno {
 	if r.store.Dead() {
 		return api.ErrDown
 	}
-	if m.Kind != kind || m.To != r.me || !r.isPair(m.Range, m.From) || !r.isSet(m.Set) {
+	if m.Kind != kind || m.To != r.me || !r.isPair(m.Range, m.From) || !right.Set(r.config, m.Set) {
 		return api.ErrMsg
 	}
 	return api.OK

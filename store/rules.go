@@ -1,11 +1,10 @@
 package store
 
 import (
-	"math/bits"
 	"slices"
 
 	"rookery/api"
-	"rookery/dotset"
+	"rookery/right"
 	"rookery/ring"
 )
 
@@ -38,24 +37,6 @@ func (r rules) keeps(owner int, key string) bool {
 
 func (r rules) isNode(node int) bool { return node >= 0 && node < r.config.Nodes }
 
-// isSet tells whether a list is a set of dots of this config.
-func (r rules) isSet(s []api.Span) bool {
-	if dotset.Check(s, r.config.Gap) != api.OK {
-		return false
-	}
-	return !slices.ContainsFunc(s, func(x api.Span) bool {
-		return !r.isNode(x.Node) || top(x) > r.config.Count
-	})
-}
+func (r rules) isSet(s []api.Span) bool { return right.Set(r.config, s) }
 
-// isRight tells whether a write is one that a node of this config may be handed.
-func (r rules) isRight(w api.Write) bool {
-	return isKey(w.Key) && len(w.Value) <= api.MaxValue && !(w.Dead && len(w.Value) > 0) &&
-		r.isNode(w.Dot.Node) && w.Dot.Count >= 1 && w.Dot.Count <= r.config.Count &&
-		r.isSet(w.Ctx) && !dotset.Has(w.Ctx, w.Dot)
-}
-
-func isKey(key string) bool { return len(key) >= 1 && len(key) <= api.MaxKey }
-
-// top tells the greatest count of a span.
-func top(x api.Span) int { return x.Base + bits.Len64(x.Bits) }
+func (r rules) isRight(w api.Write) bool { return right.Write(r.config, w) }
