@@ -16,8 +16,8 @@ const endHints = api.FirstHint + api.MaxHints
 // empty tells the content of a page file without pages.
 func (r rules) empty() content {
 	c := content{keys: map[string]stored{}, hints: map[name]kept{}}
-	for rng := range r.config.Ranges {
-		if r.prefers(rng, r.me) {
+	for rng := range r.Config.Ranges {
+		if r.Prefers(rng, r.Me) {
 			c.clocks = append(c.clocks, api.Clock{Range: rng})
 		}
 	}
@@ -38,7 +38,7 @@ func (r rules) load(f *pagefile.File) (content, bool) {
 			return content{}, false
 		}
 	}
-	return c, len(c.keys) <= r.config.Keys && len(c.hints) <= r.config.Hints && r.knowsAll(c)
+	return c, len(c.keys) <= r.Config.Keys && len(c.hints) <= r.Config.Hints && r.knowsAll(c)
 }
 
 // loadPage takes a page into the content; false, if it doesn't fit to what was taken already.
@@ -79,7 +79,7 @@ func (r rules) loadKey(c *content, n int, v *page.View) bool {
 	key := string(v.Key())
 	_, twice := c.keys[key]
 	c.keys[key] = stored{page: n, sibs: list}
-	return !twice && r.minds(key) && len(list) <= r.config.Siblings && sibs.Valid(list, r.config.Gap)
+	return !twice && r.Minds(key) && len(list) <= r.Config.Siblings && sibs.Valid(list, r.Config.Gap)
 }
 
 func (r rules) loadHint(c *content, n int, v *page.View) bool {
@@ -87,7 +87,7 @@ func (r rules) loadHint(c *content, n int, v *page.View) bool {
 	h := name{owner: v.Owner(), key: w.Key, dot: w.Dot}
 	_, twice := c.hints[h]
 	c.hints[h] = kept{page: n, write: w}
-	return err == api.OK && !twice && r.isRight(w) && r.keeps(h.owner, h.key)
+	return err == api.OK && !twice && r.isRight(w) && r.Keeps(h.owner, h.key)
 }
 
 // knowsAll tells whether each clock has the dots of its range's siblings, and no two of these are one.
@@ -107,7 +107,7 @@ func (r rules) knowsAll(c content) bool {
 func (r rules) siblings(c content, rng int) []api.Write {
 	var list []api.Write
 	for key, k := range c.keys {
-		if r.ring.Range(key) == rng {
+		if r.Ring.Range(key) == rng {
 			list = append(list, k.sibs...)
 		}
 	}

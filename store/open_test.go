@@ -67,8 +67,8 @@ func TestP901Full(t *testing.T) {
 	keys, held := 0, 0
 	for i := 0; keys < 65 || held < 33; i++ {
 		key := fmt.Sprint("key ", i)
-		rng := s.rules.ring.Range(key)
-		first, _ := s.rules.ring.Preferred(rng, 2)
+		rng := s.rules.Ring.Range(key)
+		first, _ := s.rules.Ring.Preferred(rng, 2)
 		if slices.Contains(first, 2) && keys < 65 {
 			keys++
 			wantLast(t, s, d, mint(key, false, key), keys == 65, api.ErrKeys)
@@ -91,7 +91,7 @@ func TestP901Full(t *testing.T) {
 }
 
 func refusalOf(s *Store, key string) api.Errno {
-	if s.rules.minds(key) {
+	if s.rules.Minds(key) {
 		return api.ErrKeys
 	}
 	return api.ErrMine
