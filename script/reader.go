@@ -43,7 +43,8 @@ func (r *reader) config() (api.Config, bool) {
 		}
 		ahead = " "
 	}
-	return c, r.take("\n")
+	ok := r.take("\n")
+	return c, ok
 }
 
 func (r *reader) step() (api.Step, bool) {
@@ -52,7 +53,9 @@ func (r *reader) step() (api.Step, bool) {
 	for _, sign := range f.fields {
 		ok = ok && r.take(" ") && r.field(&s, sign)
 	}
-	return s, ok && r.moreFields(&s, f.more) && r.take("\n")
+	// Ahead of the return, not in it: Go leaves open whether a variable that stands beside a call is read behind it.
+	ok = ok && r.moreFields(&s, f.more) && r.take("\n")
+	return s, ok
 }
 
 // form takes a step's first word. It goes on as long as any word goes on so: one word may be another's beginning.
